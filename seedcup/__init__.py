@@ -1,0 +1,1 @@
+"""Seedcup: questions about a knockout cup with seeded players."""

@@ -1,0 +1,48 @@
+"""[2] and the interface: names, parameters, and the files in which they are defined."""
+
+import inspect
+import unittest
+
+from seedcup import blocks, meetings
+
+SIGNATURES = {
+    blocks: {
+        "seed_at": "(rounds, place)",
+        "place_of": "(rounds, seed)",
+        "bracket": "(rounds)",
+        "block_of": "(rounds, level, seed)",
+        "nth_member": "(rounds, level, block, index)",
+        "member_index": "(rounds, level, seed)",
+    },
+    meetings: {
+        "meeting_round": "(rounds, first, second)",
+        "common_level": "(rounds, seed, *more)",
+        "share_block": "(rounds, level, *seeds)",
+    },
+}
+
+
+def functions_of_the_interface():
+    for module, signatures in SIGNATURES.items():
+        for name, signature in signatures.items():
+            yield module, name, signature
+
+
+class TestInterface(unittest.TestCase):
+    def test_functions_are_defined_in_their_files(self):
+        for module, name, _ in functions_of_the_interface():
+            self.assertTrue(inspect.isfunction(vars(module)[name]), name)
+            self.assertEqual(vars(module)[name].__module__, module.__name__, name)
+            self.assertEqual(vars(module)[name].__name__, name)
+
+    def test_parameters_have_the_names_shown(self):
+        for module, name, signature in functions_of_the_interface():
+            self.assertEqual(str(inspect.signature(vars(module)[name])), signature, name)
+
+    def test_only_bracket_is_a_generator(self):
+        for module, name, _ in functions_of_the_interface():
+            self.assertEqual(inspect.isgeneratorfunction(vars(module)[name]), name == "bracket", name)
+
+
+if __name__ == "__main__":
+    unittest.main()
