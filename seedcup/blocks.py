@@ -1,11 +1,12 @@
 """The bracket and its blocks: which seed stands where.
 
-Cut into rows of as many seeds as a level has blocks, the seeds 1, 2, 3, ...
-go to the blocks forwards, then backwards, then forwards again, and so on:
-the members of block j are the seeds that are j or 1 - j modulo two rows.
+The seeds are dealt to the blocks of a level forwards, then backwards, and so
+on: the members of block j are the seeds that are j or 1 - j modulo 2 * M,
+where M is the number of blocks.
 """
 
 from seedcup.checks import check_block, check_index, check_level, check_rounds, check_seed
+from seedcup.dealing import group_of, nth_dealt
 
 
 def seed_at(rounds, place):
@@ -48,8 +49,7 @@ def block_of(rounds, level, seed):
     check_rounds(rounds)
     check_level(rounds, level)
     check_seed(rounds, seed)
-    blocks = 1 << (rounds - level)
-    return _turned(blocks, (seed - 1) // blocks, (seed - 1) % blocks + 1)
+    return group_of(1 << (rounds - level), seed)
 
 
 def nth_member(rounds, level, block, index):
@@ -58,8 +58,7 @@ def nth_member(rounds, level, block, index):
     check_level(rounds, level)
     check_block(rounds, level, block)
     check_index(1 << level, index)
-    blocks = 1 << (rounds - level)
-    return index * blocks + _turned(blocks, index, block)
+    return nth_dealt(1 << (rounds - level), block, index)
 
 
 def member_index(rounds, level, seed):
@@ -68,10 +67,3 @@ def member_index(rounds, level, seed):
     check_level(rounds, level)
     check_seed(rounds, seed)
     return (seed - 1) // (1 << (rounds - level))
-
-
-def _turned(blocks, row, column):
-    """The block of a column of a row, and the column of a block: each second row runs backwards."""
-    if row % 2 == 0:
-        return column
-    return blocks + 1 - column

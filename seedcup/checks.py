@@ -4,7 +4,8 @@ Each `check_` function raises the error of its parameter, or returns nothing.
 A check that needs other arguments expects that they were checked before.
 """
 
-from seedcup.errors import InvalidBlock, InvalidIndex, InvalidLevel, InvalidRounds, InvalidSeed
+from seedcup.errors import (InvalidBlock, InvalidClaim, InvalidIndex, InvalidLevel, InvalidPlayers, InvalidRound,
+                            InvalidRounds, InvalidSeed)
 
 MOST_ROUNDS = 100
 
@@ -17,6 +18,22 @@ def is_integer(value):
 def is_integer_between(value, low, high):
     """Whether a value is an integer from low to high."""
     return is_integer(value) and low <= value <= high
+
+
+def is_integer_from(value, low):
+    """Whether a value is an integer from low on."""
+    return is_integer(value) and low <= value
+
+
+def is_claim(rounds, value):
+    """Whether a value is a claim for a number of rounds."""
+    if not isinstance(value, tuple) or len(value) != 3:
+        return False
+    word, seed, stage = value
+    # The word may be any value at all: only a text is compared with texts.
+    if not isinstance(word, str) or word not in ("won", "out"):
+        return False
+    return is_integer_between(seed, 1, 1 << rounds) and is_integer_between(stage, 1, rounds)
 
 
 def check_rounds(rounds):
@@ -34,6 +51,21 @@ def check_seeds(rounds, seeds):
         check_seed(rounds, seed)
 
 
+def check_player(players, seed):
+    if not is_integer_between(seed, 1, players):
+        raise InvalidSeed()
+
+
+def check_players(rounds, players):
+    if not is_integer_between(players, 1, 1 << rounds):
+        raise InvalidPlayers()
+
+
+def check_stage(rounds, stage):
+    if not is_integer_between(stage, 1, rounds):
+        raise InvalidRound()
+
+
 def check_level(rounds, level):
     if not is_integer_between(level, 0, rounds):
         raise InvalidLevel()
@@ -47,3 +79,13 @@ def check_block(rounds, level, block):
 def check_index(size, index):
     if not is_integer_between(index, 0, size - 1):
         raise InvalidIndex()
+
+
+def check_claim(rounds, claim):
+    if not is_claim(rounds, claim):
+        raise InvalidClaim()
+
+
+def check_claims(rounds, claims):
+    for claim in claims:
+        check_claim(rounds, claim)

@@ -2,6 +2,8 @@
 
 import unittest
 
+from seedcup.errors import CupError
+
 # Values that are never an integer, of the kinds that are likely to slip through.
 NO_INTEGERS = (True, False, None, "1", "", [1], [], (1,), {1: 1}, b"\x01")
 
@@ -33,6 +35,15 @@ def blocks_by_cutting(rounds, level):
     seeds = bracket_by_rule(rounds)
     size = 2 ** level
     return [seeds[start:start + size] for start in range(0, len(seeds), size)]
+
+
+def other_half_by_cutting(seeds, place, stage):
+    """The seeds of a bracket that the seed at a place may meet in round number stage."""
+    size = 2 ** (stage - 1)
+    start = place // size * size
+    if start % (2 * size) == 0:
+        return seeds[start + size:start + 2 * size]
+    return seeds[start - size:start]
 
 
 def triangular(seed):
@@ -77,3 +88,4 @@ class CupTestCase(unittest.TestCase):
         with self.assertRaises(ValueError) as caught:
             function(*args, **named)
         self.assertIs(error_class, caught.exception.__class__, (function.__name__, args, named))
+        self.assertEqual(error_class.__mro__[1:3], (CupError, ValueError))

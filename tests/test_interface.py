@@ -3,7 +3,7 @@
 import inspect
 import unittest
 
-from seedcup import blocks, meetings
+from seedcup import blocks, byes, claims, meetings, opponents, snakes
 
 SIGNATURES = {
     blocks: {
@@ -19,7 +19,30 @@ SIGNATURES = {
         "common_level": "(rounds, seed, *more)",
         "share_block": "(rounds, level, *seeds)",
     },
+    opponents: {
+        "nth_opponent": "(rounds, seed, stage, index)",
+        "opponents": "(rounds, seed, stage)",
+        "expected_path": "(rounds, seed)",
+    },
+    snakes: {
+        "snake_group": "(groups, seed)",
+        "nth_in_group": "(groups, group, index)",
+        "group_sum": "(groups, group, count)",
+        "refines": "(groups, other)",
+    },
+    byes: {
+        "count_matches": "(rounds, players, stage)",
+        "first_match": "(rounds, players, seed)",
+        "count_opponents": "(rounds, players, seed, stage)",
+    },
+    claims: {
+        "consistent": "(rounds, *claims)",
+        "conflict": "(rounds, *claims)",
+        "free_matches": "(rounds, *claims)",
+        "follows": "(rounds, claim, *claims)",
+    },
 }
+GENERATORS = ("bracket", "opponents")
 
 
 def functions_of_the_interface():
@@ -39,9 +62,9 @@ class TestInterface(unittest.TestCase):
         for module, name, signature in functions_of_the_interface():
             self.assertEqual(str(inspect.signature(vars(module)[name])), signature, name)
 
-    def test_only_bracket_is_a_generator(self):
+    def test_generators_are_those_that_the_document_lists(self):
         for module, name, _ in functions_of_the_interface():
-            self.assertEqual(inspect.isgeneratorfunction(vars(module)[name]), name == "bracket", name)
+            self.assertEqual(inspect.isgeneratorfunction(vars(module)[name]), name in GENERATORS, name)
 
 
 if __name__ == "__main__":
