@@ -4,10 +4,13 @@ Each `check_` function raises the error of its parameter, or returns nothing.
 A check that needs other arguments expects that they were checked before.
 """
 
-from seedcup.errors import (InvalidBlock, InvalidClaim, InvalidIndex, InvalidLevel, InvalidPlayers, InvalidRound,
-                            InvalidRounds, InvalidSeed)
+from seedcup.errors import (InvalidBlock, InvalidClaim, InvalidClaims, InvalidDraw, InvalidIndex, InvalidLevel,
+                            InvalidPlayers, InvalidRound, InvalidRounds, InvalidSeed, TooLarge)
 
 MOST_ROUNDS = 100
+
+# How many seeds a draw of 1 to 7 rounds has.
+DRAW_SIZES = (2, 4, 8, 16, 32, 64, 128)
 
 
 def is_integer(value):
@@ -36,9 +39,25 @@ def is_claim(rounds, value):
     return is_integer_between(seed, 1, 1 << rounds) and is_integer_between(stage, 1, rounds)
 
 
+def is_draw(value):
+    """Whether a value is a draw."""
+    if not isinstance(value, list) or len(value) not in DRAW_SIZES:
+        return False
+    # True and False equal seeds, and values of other kinds may not be sorted.
+    if not all(is_integer(seed) for seed in value):
+        return False
+    return sorted(value) == list(range(1, len(value) + 1))
+
+
 def check_rounds(rounds):
     if not is_integer_between(rounds, 1, MOST_ROUNDS):
         raise InvalidRounds()
+
+
+def check_few_rounds(rounds, limit):
+    check_rounds(rounds)
+    if rounds > limit:
+        raise TooLarge(limit)
 
 
 def check_seed(rounds, seed):
@@ -89,3 +108,13 @@ def check_claim(rounds, claim):
 def check_claims(rounds, claims):
     for claim in claims:
         check_claim(rounds, claim)
+
+
+def check_claim_list(rounds, claims):
+    if not isinstance(claims, list) or not all(is_claim(rounds, claim) for claim in claims):
+        raise InvalidClaims()
+
+
+def check_draw(draw):
+    if not is_draw(draw):
+        raise InvalidDraw()

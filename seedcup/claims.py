@@ -5,7 +5,7 @@ matches of the rounds 1 to r, or it loses in round t and wins all before.
 """
 
 from seedcup.checks import check_claim, check_claims, check_rounds
-from seedcup.decisions import contains_all, decided_by_all, decisions, differ
+from seedcup.decisions import contains_all, count_open, decided_by_all, decisions, differ
 
 
 def consistent(rounds, *claims):
@@ -29,8 +29,7 @@ def free_matches(rounds, *claims):
     """The number f such that 2 ** f results satisfy the claims."""
     check_rounds(rounds)
     check_claims(rounds, claims)
-    matches = (1 << rounds) - 1
-    return matches - len(decided_by_all(rounds, claims))
+    return count_open(rounds, decided_by_all(rounds, claims))
 
 
 def follows(rounds, claim, *claims):

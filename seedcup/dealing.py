@@ -25,6 +25,18 @@ def count_dealt(groups, group, last):
     return rows
 
 
+def count_dealt_to_any(groups, chosen, last):
+    """How many of the seeds from 1 to the last one are dealt to any of the chosen groups."""
+    rows = last // groups
+    rest = last % groups
+    # The last row has dealt only to so many groups, from the one end or the other.
+    if rows % 2 == 0:
+        reached = [group for group in chosen if group <= rest]
+    else:
+        reached = [group for group in chosen if group > groups - rest]
+    return rows * len(chosen) + len(reached)
+
+
 def _turned(groups, row, column):
     """The group of a column of a row, and the column of a group: each second row runs backwards."""
     if row % 2 == 0:

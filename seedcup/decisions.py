@@ -14,9 +14,9 @@ from seedcup.halves import other_half, own_half
 def decisions(rounds, claim):
     """A dict of the matches that a claim decides, with the numbers of the halves that win them."""
     word, seed, last = claim
-    decided = {_match_of(rounds, stage, seed): own_half(rounds, stage, seed) for stage in range(1, last + 1)}
+    decided = {match_of(rounds, stage, seed): own_half(rounds, stage, seed) for stage in range(1, last + 1)}
     if word == "out":
-        decided[_match_of(rounds, last, seed)] = other_half(rounds, last, seed)
+        decided[match_of(rounds, last, seed)] = other_half(rounds, last, seed)
     return decided
 
 
@@ -32,16 +32,35 @@ def contains_all(decided, told):
 
 def decided_by_all(rounds, claims):
     """A dict of the matches that any of the claims decides; raises Inconsistent if two claims differ."""
-    decided = {}
+    return decided_besides(rounds, {}, claims)
+
+
+def decided_besides(rounds, decided, claims):
+    """A dict of what claims decide besides the matches that are decided; raises Inconsistent if they do not fit."""
+    added = {}
     for claim in claims:
         told = decisions(rounds, claim)
-        if differ(told, decided):
+        if differ(told, decided) or differ(told, added):
             raise Inconsistent()
         for played in told:
-            decided[played] = told[played]
-    return decided
+            if played not in decided:
+                added[played] = told[played]
+    return added
 
 
-def _match_of(rounds, stage, seed):
+def count_open(rounds, decided):
+    """How many matches are not decided."""
+    matches = (1 << rounds) - 1
+    return matches - len(decided)
+
+
+def touched_blocks(rounds, decided):
+    """A dict of the blocks that contain a decided match, in ascending order of their levels, each with True."""
+    # Each claim decides a match of round 1, so these matches lead to all of them.
+    firsts = [block for (stage, block) in decided if stage == 1]
+    return {match_of(rounds, level, block): True for level in range(1, rounds + 1) for block in firsts}
+
+
+def match_of(rounds, stage, seed):
     """The match that a seed plays in round number stage if it gets so far."""
     return stage, group_of(1 << (rounds - stage), seed)

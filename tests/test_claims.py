@@ -2,72 +2,10 @@ import itertools
 import random
 import unittest
 
-from helper import (LARGE_CUPS, CupTestCase, bracket_by_rule, few_seeds_of_interest,
-                    least_level_by_rule)
+from helper import (LARGE_CUPS, PLAYED, PLAYED_CUPS, CupTestCase, all_claims, few_seeds_of_interest, fit,
+                    least_level_by_rule, loses, satisfied, wins)
 from seedcup.claims import conflict, consistent, follows, free_matches
 from seedcup.errors import Inconsistent
-
-SMALL_CUPS = (1, 2, 3)
-
-
-def play_all(rounds):
-    """All results of a cup, played match by match: for each of them the round in which each seed loses.
-
-    The winner of the cup has the round after the last one.
-    """
-    states = [(bracket_by_rule(rounds), {})]
-    for stage in range(1, rounds + 1):
-        states = [state for seeds, ends in states for state in play_round(seeds, ends, stage)]
-    return [{**ends, seeds[0]: rounds + 1} for seeds, ends in states]
-
-
-def play_round(seeds, ends, stage):
-    """All ways in which a round may end: the winners that are left, and the ends so far."""
-    matches = list(zip(seeds[::2], seeds[1::2]))
-    for choice in itertools.product((0, 1), repeat=len(matches)):
-        winners = [pair[side] for pair, side in zip(matches, choice)]
-        losers = {pair[1 - side]: stage for pair, side in zip(matches, choice)}
-        yield winners, {**ends, **losers}
-
-
-def satisfied(claim, ends):
-    word, seed, number = claim
-    if word == "won":
-        return ends[seed] > number
-    return ends[seed] == number
-
-
-def all_claims(rounds):
-    return [(word, seed, number) for word in ("won", "out")
-            for seed in range(1, 2 ** rounds + 1) for number in range(1, rounds + 1)]
-
-
-class PlayedCup:
-    """A small cup with all its results; a set of results is an integer with one bit for each."""
-
-    def __init__(self, rounds):
-        self.rounds = rounds
-        self.claims = all_claims(rounds)
-        results = play_all(rounds)
-        self.everything = 2 ** len(results) - 1
-        self.bits = {claim: sum(2 ** at for at, ends in enumerate(results) if satisfied(claim, ends))
-                     for claim in self.claims}
-
-    def results_of(self, claims):
-        left = self.everything
-        for claim in claims:
-            left &= self.bits[claim]
-        return left
-
-    def first_conflict(self, claims):
-        for j, later in enumerate(claims):
-            for i, earlier in enumerate(claims[:j]):
-                if self.bits[earlier] & self.bits[later] == 0:
-                    return i, j
-        return None
-
-
-PLAYED = {rounds: PlayedCup(rounds) for rounds in SMALL_CUPS}
 
 
 def few_claims():
@@ -85,9 +23,8 @@ def many_claims():
     """
     chance = random.Random(15)
     for rounds, cup in PLAYED.items():
-        results = play_all(rounds)
         for number in range(1500):
-            ends = chance.choice(results)
+            ends = chance.choice(cup.results)
             allowed = [claim for claim in cup.claims if number % 2 == 0 or satisfied(claim, ends)]
             yield cup, tuple(chance.choices(allowed, k=chance.randint(3, 9)))
 
@@ -112,7 +49,7 @@ class TestSmallCups(CupTestCase):
     """[14] and [15] against all results of cups of 1 to 3 rounds."""
 
     def test_the_results_are_all(self):
-        for rounds in SMALL_CUPS:
+        for rounds in PLAYED_CUPS:
             self.assertEqual(PLAYED[rounds].everything, 2 ** 2 ** (2 ** rounds - 1) - 1)
 
     def test_few_claims(self):
@@ -223,15 +160,6 @@ class TestPlainCases(CupTestCase):
         self.assert_error(Inconsistent, follows, 3, ("won", 2, 1), ("won", 1, 1), ("out", 1, 1))
 
 
-def wins(claim):
-    """How many rounds a claim says that its seed wins."""
-    return claim[2] if claim[0] == "won" else claim[2] - 1
-
-
-def loses(claim):
-    return claim[2] if claim[0] == "out" else None
-
-
 class TestLargeCups(CupTestCase):
     """[14] and [15] by pairs of claims about cups that are too large to be played."""
 
@@ -259,16 +187,6 @@ class TestLargeCups(CupTestCase):
                     yield "won", other, number
                     yield "out", other, number
 
-    def fit(self, rounds, first, second):
-        """Whether two claims are consistent, by the round in which their seeds meet."""
-        if first[1] == second[1]:
-            ends = {loses(claim) for claim in (first, second)} - {None}
-            return len(ends) == 0 or len(ends) == 1 and max(wins(first), wins(second)) < min(ends)
-        stage = least_level_by_rule(rounds, first[1], second[1])
-        both_win = wins(first) >= stage and wins(second) >= stage
-        both_lose = loses(first) == stage and loses(second) == stage
-        return not both_win and not both_lose
-
     def free(self, rounds, first, second):
         """The open matches: those of the two seeds are the same from their meeting on."""
         met = max(1, least_level_by_rule(rounds, first[1], second[1]))
@@ -292,16 +210,16 @@ class TestLargeCups(CupTestCase):
         seen = {}
         for rounds, first, second in self.pairs():
             told = (rounds, first, second)
-            fit = self.fit(rounds, first, second)
-            self.assertIs(consistent(rounds, first, second), fit, told)
-            self.assertEqual(conflict(rounds, first, second), None if fit else (0, 1), told)
-            if fit:
+            fits = fit(rounds, first, second)
+            self.assertIs(consistent(rounds, first, second), fits, told)
+            self.assertEqual(conflict(rounds, first, second), None if fits else (0, 1), told)
+            if fits:
                 self.assertEqual(free_matches(rounds, first, second), self.free(rounds, first, second), told)
             else:
                 self.assert_error(Inconsistent, free_matches, rounds, first, second)
             implied = self.implied(rounds, first, second)
             self.assertIs(follows(rounds, first, second), implied, told)
-            key = (fit, implied, first[1] == second[1])
+            key = (fits, implied, first[1] == second[1])
             seen[key] = seen.get(key, 0) + 1
         # Every kind of pair was there: what follows also fits.
         kinds = {(True, True), (True, False), (False, False)}

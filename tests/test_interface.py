@@ -3,7 +3,7 @@
 import inspect
 import unittest
 
-from seedcup import blocks, byes, claims, meetings, opponents, snakes
+from seedcup import blocks, byes, chances, claims, draws, meetings, opponents, snakes, upsets
 
 SIGNATURES = {
     blocks: {
@@ -40,6 +40,23 @@ SIGNATURES = {
         "conflict": "(rounds, *claims)",
         "free_matches": "(rounds, *claims)",
         "follows": "(rounds, claim, *claims)",
+    },
+    chances: {
+        "possible_ends": "(rounds, claims, seed)",
+        "can_meet": "(rounds, claims, first, second)",
+        "count_winners": "(rounds, claims, level, block)",
+        "nth_winner": "(rounds, claims, level, block, index)",
+    },
+    upsets: {
+        "expected_winner": "(rounds, claims, level, block)",
+        "upset_matches": "(rounds, claims)",
+        "fewest_upsets": "(rounds, claims)",
+    },
+    draws: {
+        "is_standard": "(draw)",
+        "why_not_standard": "(draw)",
+        "nth_draw": "(rounds, index)",
+        "rank_draw": "(draw)",
     },
 }
 GENERATORS = ("bracket", "opponents")
