@@ -56,12 +56,12 @@ def _ends_of(rounds, decided, seed):
     """The list of all possible ends of a seed in ascending order."""
     ends = []
     for stage in range(1, rounds + 1):
-        match = match_of(rounds, stage, seed)
-        if match not in decided:
+        played = match_of(rounds, stage, seed)
+        if played not in decided:
             ends.append(stage)
-        elif decided[match] != own_half(rounds, stage, seed):
-            return [*ends, stage]
-    return [*ends, rounds + 1]
+        elif decided[played] != own_half(rounds, stage, seed):
+            return ends + [stage]
+    return ends + [rounds + 1]
 
 
 def _checked_free_blocks(rounds, claims, level, block):

@@ -9,6 +9,8 @@ from seedcup.errors import (InvalidBlock, InvalidClaim, InvalidClaims, InvalidDr
 
 MOST_ROUNDS = 100
 
+CLAIM_WORDS = ("won", "out")
+
 # How many seeds a draw of 1 to 7 rounds has.
 DRAW_SIZES = (2, 4, 8, 16, 32, 64, 128)
 
@@ -28,15 +30,20 @@ def is_integer_from(value, low):
     return is_integer(value) and low <= value
 
 
-def is_claim(rounds, value):
-    """Whether a value is a claim for a number of rounds."""
+def has_claim_form(value):
+    """Whether a value is a claim for some number of rounds, be it above the limit."""
     if not isinstance(value, tuple) or len(value) != 3:
         return False
     word, seed, stage = value
     # The word may be any value at all: only a text is compared with texts.
-    if not isinstance(word, str) or word not in ("won", "out"):
+    if not isinstance(word, str) or word not in CLAIM_WORDS:
         return False
-    return is_integer_between(seed, 1, 1 << rounds) and is_integer_between(stage, 1, rounds)
+    return is_integer_from(seed, 1) and is_integer_from(stage, 1)
+
+
+def is_claim(rounds, value):
+    """Whether a value is a claim for a number of rounds."""
+    return has_claim_form(value) and value[1] <= 1 << rounds and value[2] <= rounds
 
 
 def is_draw(value):

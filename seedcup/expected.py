@@ -13,11 +13,10 @@ def expected_winners(rounds, decided):
     """A dict of the blocks (level, block) that contain a decided match, with the seeds that win them."""
     winners = {}
     for level, block in touched_blocks(rounds, decided):
-        match = (level, block)
-        if match in decided:
-            winners[match] = winner_in(winners, level - 1, decided[match])
+        if (level, block) in decided:
+            winners[(level, block)] = winner_in(winners, level - 1, decided[(level, block)])
         else:
-            winners[match] = min(players_in(rounds, winners, level, block))
+            winners[(level, block)] = min(players_in(rounds, winners, level, block))
     return winners
 
 

@@ -134,6 +134,26 @@ def upsets_of(rounds, ends):
     return [(stage, block) for stage, block, winner, loser in matches_of(rounds, ends) if winner > loser]
 
 
+def random_ends(rounds, chance):
+    """The ends of a result in which each match is won by either player."""
+    seeds, ends = bracket_by_rule(rounds), {}
+    for stage in range(1, rounds + 1):
+        pairs = [chance.sample(pair, 2) for pair in zip(seeds[::2], seeds[1::2])]
+        seeds = [winner for winner, _ in pairs]
+        ends.update({loser: stage for _, loser in pairs})
+    return {**ends, seeds[0]: rounds + 1}
+
+
+def written_result(rounds, ends):
+    """A result as the list of its winners, as [20] says."""
+    return [winner for _, _, winner, _ in matches_of(rounds, ends)]
+
+
+def upset_bits(rounds, ends):
+    """The list of a result that has 1 for each upset and 0 for each other match."""
+    return [int(winner > loser) for _, _, winner, loser in matches_of(rounds, ends)]
+
+
 def wins(claim):
     """How many rounds a claim says that its seed wins."""
     return claim[2] if claim[0] == "won" else claim[2] - 1
@@ -189,6 +209,25 @@ def expected_of_pair(claims, stage, better, worse):
             if loses(claim) == stage:
                 return other
     return better
+
+
+def expected_by_halves(rounds, claims, level, block, upsets):
+    """The winner of a block; its upsets are added to a list. The claims are only about seeds of the block."""
+    if not claims or level == 0:
+        return block
+    own = {half: [claim for claim in claims if block_by_rule(rounds, level - 1, claim[1]) == half]
+           for half in halves_by_rule(rounds, level, block)}
+    players = {half: expected_by_halves(rounds, own[half], level - 1, half, upsets) for half in own}
+    winner = min(players.values())
+    for half, other in (tuple(own), tuple(own)[::-1]):
+        for claim in own[half]:
+            if wins(claim) >= level:
+                winner = players[half]
+            elif loses(claim) == level:
+                winner = players[other]
+    if winner == max(players.values()):
+        upsets.append((level, block))
+    return winner
 
 
 class PlayedCup:

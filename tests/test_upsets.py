@@ -3,7 +3,7 @@ import random
 import unittest
 
 from helper import (LARGE_CUPS, PLAYED, CupTestCase, block_by_rule, blocks_by_cutting, consistent_lists,
-                    few_seeds_of_interest, halves_by_rule, loses, play_expected, random_claims, upsets_of, wins)
+                    expected_by_halves, few_seeds_of_interest, halves_by_rule, play_expected, random_claims, upsets_of)
 from seedcup.errors import Inconsistent
 from seedcup.upsets import expected_winner, fewest_upsets, upset_matches
 
@@ -127,25 +127,6 @@ class TestPlainCases(unittest.TestCase):
         self.assertEqual(expected_winner(3, claims, 1, 3), 6)
         self.assertEqual(expected_winner(3, claims, 2, 2), 6)
         self.assertEqual(upset_matches(3, claims), [(1, 2), (1, 3)])
-
-
-def expected_by_halves(rounds, claims, level, block, upsets):
-    """The winner of a block; its upsets are added to a list. The claims are only about seeds of the block."""
-    if not claims or level == 0:
-        return block
-    own = {half: [claim for claim in claims if block_by_rule(rounds, level - 1, claim[1]) == half]
-           for half in halves_by_rule(rounds, level, block)}
-    players = {half: expected_by_halves(rounds, own[half], level - 1, half, upsets) for half in own}
-    winner = min(players.values())
-    for half, other in (tuple(own), tuple(own)[::-1]):
-        for claim in own[half]:
-            if wins(claim) >= level:
-                winner = players[half]
-            elif loses(claim) == level:
-                winner = players[other]
-    if winner == max(players.values()):
-        upsets.append((level, block))
-    return winner
 
 
 def large_cases():
